@@ -239,11 +239,35 @@ func TestAppendOfNoRecords(t *testing.T) {
 	checkHas(t, j, d, 22, "ab", "c", "d")
 	checkError(t, "Append of no records, forced, the fuse spent", j.Append(true), api.ErrDown)
 	checkOver(t, j, d)
+}
 
-	j, d = with(t)
+// P5.1: without records, and not forced, an Append asks nothing of the disk: also of one that is down it is OK, and the journal goes on; the Sync of a forced one meets it.
+func TestAppendOfNoRecordsToADiskThatIsDown(t *testing.T) {
+	for _, l := range [][]string{nil, {}} {
+		for _, size := range []int{22, 100} { // full, and not
+			for _, call := range []func(j *Journal) api.Errno{
+				func(j *Journal) api.Errno { return j.Append(true, l...) },
+				func(j *Journal) api.Errno { return j.Renew(l...) },
+				func(j *Journal) api.Errno { return j.Back(3) },
+			} {
+				d := holding(t, size, framed("ab", "c"), framed("d"))
+				j := opened(t, d, "ab", "c", "d")
+				goDown(t, d)
+				for range 2 {
+					checkError(t, "Append of no records, the disk down", j.Append(false, l...), api.OK)
+					checkHas(t, j, d, 15, "ab", "c", "d")
+				}
+				checkError(t, "what asks the disk", call(j), api.ErrDown)
+				checkOver(t, j, d)
+			}
+		}
+	}
+	j, d := with(t)
 	goDown(t, d)
-	checkError(t, "Append of no records, the disk down", j.Append(false), api.ErrDown)
-	checkOver(t, j, d)
+	checkError(t, "Append of no records, the disk down", j.Append(false), api.OK)
+	d.Crash(0) // the journal never met it down, and goes on behind the crash
+	checkError(t, "Append behind the crash", j.Append(true, "e"), api.OK)
+	checkHas(t, j, d, 22, "ab", "c", "e")
 }
 
 // P5.1: a record of MaxFrame bytes is put; of one more nothing is, nor of those that stand with it, and there is no Sync.
@@ -528,7 +552,7 @@ func TestOrderOfErrors(t *testing.T) {
 	calls := []func(j *Journal) api.Errno{
 		func(j *Journal) api.Errno { return j.Append(false, "e") },
 		func(j *Journal) api.Errno { return j.Append(true, "e") },
-		func(j *Journal) api.Errno { return j.Append(false) },
+		func(j *Journal) api.Errno { return j.Append(false, "") },
 		func(j *Journal) api.Errno { return j.Append(true) },
 		func(j *Journal) api.Errno { return j.Append(true, long(72)) }, // just fits
 		func(j *Journal) api.Errno { return j.Renew() },

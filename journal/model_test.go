@@ -55,7 +55,7 @@ func (m *model) put(l []string) api.Errno {
 		return api.ErrLong
 	case size > m.size:
 		return api.ErrFull
-	case m.isDown:
+	case m.isDown && len(l) > 0:
 		m.isOver = true
 		return api.ErrDown
 	}

@@ -513,6 +513,40 @@ func TestOver(t *testing.T) {
 	checkOver(t, k, stateOf(t, 1, 1, 1, epoch(1)))
 }
 
+// P9.1: a Log without records, and not forced, asks the journal for nothing that needs the disk: it is OK also of one that is down, as long as the journal needn't begin anew.
+func TestLogOfNoRecordsToADiskThatIsDown(t *testing.T) {
+	for _, size := range []int{0, 1, 2 * epochBytes, 1000} {
+		d := fresh(t, size)
+		k := opened(t, d, 1, 1, 1)
+		if size >= 2*epochBytes {
+			checkError(t, "Log", k.Log(true, epoch(1)), api.OK)
+		}
+		s := k.State()
+		d.Fuse(0)
+		d.Sync()
+		for range 2 {
+			checkLeft(t, "Log of no records, the disk down", k, d, api.OK, func() api.Errno { return k.Log(false) })
+		}
+		checkError(t, "Log of no records, forced, the disk down", k.Log(true), api.ErrDown)
+		checkOver(t, k, s)
+	}
+	k, d := alone(t, 200, epoch(1), epoch(2), epoch(3), epoch(4), epoch(5), epoch(6)) // within half, and then above it
+	checkError(t, "Log", k.Journal.Append(true, texts(t, epoch(7))...), api.OK)
+	d.Fuse(0)
+	d.Sync()
+	checkLeft(t, "Log of no records, no room to begin anew", k, d, api.OK, func() api.Errno { return k.Log(false) })
+	k, d = alone(t, 400, epoch(1))
+	checkError(t, "Log", k.Log(false, wrote(own(1), 0, 0, 5), epoch(2), epoch(3)), api.OK)
+	for k.Len() <= 200 {
+		checkError(t, "Append at the journal", k.Journal.Append(true, texts(t, epoch(9))...), api.OK)
+	}
+	s := k.State()
+	d.Fuse(0)
+	d.Sync()
+	checkError(t, "Log of no records, which is to begin anew", k.Log(false), api.ErrDown)
+	checkOver(t, k, s)
+}
+
 // P9.1: Renew puts the records that make the state, and a Whole, and nothing else is left; the state stays, and so it does with the next one.
 func TestRenew(t *testing.T) {
 	d := fresh(t, 10000)

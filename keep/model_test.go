@@ -49,8 +49,13 @@ func (m *model) put(force bool, l []record.Record) api.Errno {
 	if len(s)+len(m.d.Bytes()) > m.d.Size() {
 		return api.ErrFull
 	}
-	if e := m.did(m.d.Append(s)); e != api.OK || !force {
-		return e
+	if len(l) > 0 {
+		if e := m.did(m.d.Append(s)); e != api.OK {
+			return e
+		}
+	}
+	if !force {
+		return api.OK
 	}
 	return m.did(m.d.Sync())
 }
@@ -222,6 +227,7 @@ func decides(s ledger.State, yes bool) record.Record {
 func steps() []func(p *pair) bool {
 	return []func(p *pair) bool{
 		func(p *pair) bool { return p.log(true) },
+		func(p *pair) bool { return p.log(false) },
 		func(p *pair) bool { return p.log(true, epoch(p.m.state().Epoch+1)) },
 		func(p *pair) bool { return p.log(false, prepares(p.m.state())) },
 		func(p *pair) bool { s := p.m.state(); return p.log(true, epoch(s.Epoch+1), decides(s, true)) },
